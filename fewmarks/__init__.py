@@ -1,0 +1,1 @@
+"""Fewmarks: what must be known of the text ahead."""

@@ -1,0 +1,1 @@
+"""Words, rewriters, and their paths and results."""

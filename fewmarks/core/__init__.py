@@ -1,0 +1,1 @@
+"""What several modules need; nothing here imports the class of rewriters."""

@@ -1,0 +1,57 @@
+"""Going from node to node: states, pairs of states, or whatever else can be a key.
+
+All functions here change only what they make themselves, since operators use them.
+"""
+
+
+def nodes_from(begin, moves):
+    """All nodes to which rows of moves (node, node) go from some nodes, and these, as a dict."""
+    onward = {}
+    for node, after in sorted(set(moves)):
+        onward[node] = onward.get(node, ()) + (after,)
+    found = {}
+    waiting = list(begin)
+    while waiting:
+        node = waiting.pop()
+        if node not in found:
+            found[node] = True
+            waiting.extend(onward.get(node, ()))
+    return found
+
+
+def nodes_between(begin, moves, goals):
+    """The ascending list of the nodes on rows of moves from some nodes to some goals."""
+    reached = nodes_from(begin, moves)
+    useful = nodes_from(goals, [(after, node) for node, after in moves])
+    return sorted([node for node in reached if node in useful])
+
+
+def first_ways(begin, steps):
+    """All nodes to which steps go, nearest ones first, each with its first way.
+
+    `steps` is a dict from nodes to tuples of pairs (label, node). The result is a dict
+    from nodes to None at the beginning, else to pairs (node before, label).
+    """
+    found = {}
+    row = []
+    for node in begin:
+        if node not in found:
+            found[node] = None
+            row.append(node)
+    at = 0
+    while at < len(row):
+        for label, after in steps.get(row[at], ()):
+            if after not in found:
+                found[after] = (row[at], label)
+                row.append(after)
+        at += 1
+    return found
+
+
+def way_to(found, node):
+    """The node at which the first way to a node begins, and the tuple of its labels."""
+    labels = []
+    while found[node] is not None:
+        node, label = found[node]
+        labels.append(label)
+    return node, tuple(labels[::-1])

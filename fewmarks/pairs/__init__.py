@@ -1,0 +1,1 @@
+"""Pairs of states, and whether a text can have two results."""

@@ -1,0 +1,1 @@
+"""Rests: texts that are still to come."""

@@ -1,0 +1,173 @@
+"""What several tests need: values, wrong values, and second ways of telling what is right."""
+import random
+
+from fewmarks.base.rewriters import Rewriter
+
+LAST = Rewriter("ab", {0: "", 2: ""}, ((0, "a", "a", 0), (0, "b", "b", 1), (1, "a", "a", 0), (1, "b", "b", 1), (2, "a", "aa", 2), (2, "b", "bb", 3), (3, "a", "aa", 2), (3, "b", "bb", 3)), {0: "", 3: ""})
+ADD = Rewriter("ab", {0: "", 1: ""}, ((0, "a", "a", 0), (0, "b", "b", 0), (0, "a", "b", 1), (1, "b", "a", 1)), {1: ""})
+SWAP = Rewriter("ab", {0: ""}, ((0, "a", "", 1), (0, "b", "", 2), (1, "a", "aa", 0), (1, "b", "ba", 0), (2, "a", "ab", 0), (2, "b", "bb", 0)), {0: "", 1: "a", 2: "b"})
+DROP = Rewriter("a", {0: "", 2: ""}, ((0, "a", "a", 0), (0, "a", "", 1)), {1: "", 2: ""})
+TURNS = Rewriter("abc", {0: ""}, ((0, "a", "a", 1), (0, "a", "", 2), (0, "b", "", 1), (0, "b", "a", 2), (1, "c", "a", 1), (2, "c", "a", 2), (1, "a", "", 3), (2, "b", "", 3)), {3: ""})
+EMPTY = Rewriter("ab", {0: ""}, (), {1: ""})
+TWICE = LAST.with_edge((0, "b", "a", 1)) | Rewriter.copying("ab")
+# Results are the texts of as many letters, so that there are 2 ** n of them.
+CHOICE = Rewriter("a", {0: ""}, ((0, "a", "a", 0), (0, "a", "b", 0)), {0: ""})
+# 2 ** n paths that write the same.
+SAME = Rewriter("a", {0: "", 1: ""}, ((0, "a", "", 0), (0, "a", "", 1), (1, "a", "", 0), (1, "a", "", 1)), {0: ""})
+KNOWN = (LAST, ADD, SWAP, DROP, TURNS, EMPTY, TWICE, CHOICE, SAME, Rewriter.copying("abcd"))
+
+
+def deep(many):
+    """A value that is nested so deep."""
+    value = ()
+    for _ in range(many - 1):
+        value = (value,)
+    return value
+
+
+def any_values():
+    """Values of all kinds, right and wrong ones for whatever parameter."""
+    return [
+        None, True, False, 0, 1, 2, 3, 11, 12, 60, 61, -1, 10 ** 39, -10 ** 39,
+        "", "a", "b", "c", "z", "ab", "ba", "aa", "abcd", "abcde", "A", "aB", "a b", " a", "a ", "a\n", "\n", "a.", "0", "-",
+        "a" * 8, "a" * 9, "a" * 60, "a" * 61, "b" * 1000, "a" * 500 + "!" + "a" * 499, "xyz",
+        (), (0,), (1,), (0, 0), (0, 1), (1, 0), (2, 3), (0, 2, 3), (True,), (0, True), (False, True), (False, 1), (12,), (-1, 0),
+        (0, 1, 2), ("a",), ("a", "b"), ("", ""), ("a", "a"), ("", "b"), ("ab", "ac"), ("ba", "c"), (None, None), ("a", 1), ((), ()), ([],),
+        [], [0], [0, 1], ["a", "b"], [[]], ["", ""],
+        {}, {0: ""}, {1: ""}, {"a": "b"}, {True: ""}, {0: 1}, {(0, 0): ("", "")}, {None: None}, {12: ""}, {0: "a" * 9},
+        (0, "a", "a", 0), (0, "a", "", 1), [0, "a", "a", 0], (False, "a", "a", 0), (0, "a", "a", False), (0, "a", "a"),
+        (0, "a", "a", 0, 0), (0, "a", "a" * 9, 0), (0, "c", "a", 0), (0, "a", "A", 0), (0, 0, "a", "a"), (12, "a", "a", 0),
+        (0, ()), (1, ()), (0, []), (True, ()), (0, ((0, "a", "a", 0),)), (0, ((0, "a", "a", 1),)), (0, [(0, "a", "a", 0)]),
+        ("single", {}), ("single", {(0, 0): ("", "")}), ("single", {(0, 0): ("", ""), (1, 1): ("", "")}),
+        ("two", "", (0, ()), (0, ())), ("two",), "single", "two", ["single", {}],
+        deep(10), LAST, ADD, SWAP, CHOICE, EMPTY, LAST("ab"), LAST.ends, LAST.edges, (LAST,), [ADD], {0: LAST},
+        (number for number in (0, 1)), ("e" * 4000),
+    ]
+
+
+def is_whole(value):
+    """Whether this is an integer, told in another way than by the package."""
+    return type(value) is int
+
+
+def is_string_of_letters(value):
+    return type(value) is str and all(97 <= ord(sign) <= 122 for sign in value)
+
+
+def raw_of(rewriter):
+    """The parts of a rewriter."""
+    return rewriter.letters, rewriter.starts, rewriter.edges, rewriter.ends
+
+
+def all_texts(letters, length):
+    """All texts of at most so many letters, in order."""
+    rows = last = [""]
+    for _ in range(length):
+        last = [text + letter for text in last for letter in letters]
+        rows = rows + last
+    return rows
+
+
+def all_trails(raw, text):
+    """All complete paths that read the text, by going along all edges."""
+    _, starts, edges, ends = raw
+    rows = [(start, start, ()) for start in starts]
+    for letter in text:
+        rows = [(start, edge[3], row + (edge,)) for start, state, row in rows
+                for edge in set(edges) if edge[0] == state and edge[1] == letter]
+    return sorted((start, row) for start, state, row in rows if state in ends)
+
+
+def trail_word(raw, trail):
+    """What a complete path writes."""
+    _, starts, _, ends = raw
+    word = starts[trail[0]]
+    state = trail[0]
+    for edge in trail[1]:
+        word += edge[2]
+        state = edge[3]
+    return word + ends[state]
+
+
+def all_results(raw, text):
+    """The results of a text, in order, from all complete paths."""
+    words = {trail_word(raw, trail) for trail in all_trails(raw, text)}
+    return tuple(sorted(words, key=lambda word: (len(word), word)))
+
+
+def random_word(chance, most, letters="abz"):
+    return "".join(chance.choice(letters) for _ in range(chance.randint(0, most)))
+
+
+def random_raw(chance, *, states=4, edges=9, most=2, letters=None):
+    """The parts of some rewriter, much of which may be left out."""
+    letters = letters or chance.choice(("a", "ab", "bc", "abc", "bz"))
+    names = chance.sample(range(12), chance.randint(1, states))
+    rows = [(chance.choice(names), chance.choice(letters), random_word(chance, most), chance.choice(names))
+            for _ in range(chance.randint(0, edges))]
+    rows = rows + rows[:chance.randint(0, 2)]
+    chance.shuffle(rows)
+    starts = {name: random_word(chance, most) for name in chance.sample(names, chance.randint(1, len(names)))}
+    ends = {name: random_word(chance, most) for name in chance.sample(names, chance.randint(1, len(names)))}
+    return letters, starts, tuple(rows), ends
+
+
+def random_raws(seed, many, **told):
+    chance = random.Random(seed)
+    return [random_raw(chance, **told) for _ in range(many)]
+
+
+def random_rewriters(seed, many, **told):
+    return [Rewriter(*raw) for raw in random_raws(seed, many, **told)]
+
+
+def random_singles(seed, many, *, states=5, letters="ab", most=3, gaps=0.15):
+    """Rewriters with one edge at most for each state and letter, from the left or from the right."""
+    chance = random.Random(seed)
+    made = []
+    while len(made) < many:
+        names = chance.sample(range(12), states)
+        edges = [(p, letter, random_word(chance, most, letters), chance.choice(names))
+                 for p in names for letter in letters if chance.random() > gaps]
+        one = {chance.choice(names): random_word(chance, most)}
+        some = {name: random_word(chance, most) for name in chance.sample(names, chance.randint(1, states))}
+        if len(made) % 2:
+            made.append(Rewriter(letters, some, tuple((q, letter, word, p) for p, letter, word, q in edges), one))
+        else:
+            made.append(Rewriter(letters, one, tuple(edges), some))
+    return made
+
+
+def ring(many, letter="a"):
+    """A rewriter that goes round so many states, and writes at one of them."""
+    edges = tuple((at, letter, "x" if at == 0 else "", (at + 1) % many) for at in range(many))
+    return Rewriter(letter, {0: ""}, edges, {0: ""})
+
+
+def two_rings():
+    """Rings of five and of seven states over the same letter, each of which writes once."""
+    five = tuple((at, "a", "x" if at == 2 else "", (at + 1) % 5) for at in range(5))
+    seven = tuple((5 + at, "a", "y" if at == 4 else "", 5 + (at + 1) % 7) for at in range(7))
+    return Rewriter("a", {0: "", 5: ""}, five + seven, {0: "", 5: ""})
+
+
+class Refusals:
+    """What tests of wrong arguments share; beside it stands unittest.TestCase."""
+
+    def refused(self, error, call, *values, **told):
+        """The error, which is of just this class."""
+        with self.assertRaises(Exception) as caught:
+            call(*values, **told)
+        self.assertIs(type(caught.exception), error, (call, values, told))
+        return caught.exception
+
+    def same_as_told(self, wanted, call, *values):
+        """Whether a call is refused as told: None, or a class, or a class and a value."""
+        if wanted is None:
+            call(*values)
+            return
+        error, *kept = wanted if isinstance(wanted, tuple) else (wanted,)
+        caught = self.refused(error, call, *values)
+        if kept:
+            self.assertIs(type(caught.value), type(kept[0]))
+            self.assertEqual(caught.value, kept[0])
