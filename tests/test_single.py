@@ -158,6 +158,8 @@ class TestPapers(Refusals, unittest.TestCase):
         self.assertIs(is_single_paper(CHOICE, ("single", {(0, 0): ("", "")})), False)
         ends = Rewriter("a", {0: "", 1: ""}, (), {0: "x", 1: ""})
         self.assertIs(is_single_paper(ends, ("single", {(p, q): ("", "") for p in (0, 1) for q in (0, 1)})), False)
+        starts = Rewriter("a", {0: "", 1: "x"}, (), {0: "", 1: ""})
+        self.assertIs(is_single_paper(starts, ("single", {(p, q): ("", "") for p in (0, 1) for q in (0, 1)})), False)
         steps = Rewriter("ab", {0: "", 1: ""}, ((0, "a", "x", 0), (1, "a", "", 1), (0, "b", "", 0)), {0: "", 1: ""})
         self.assertIs(is_single_paper(steps, ("single", {(p, q): ("", "") for p in (0, 1) for q in (0, 1)})), False)
 

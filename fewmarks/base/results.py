@@ -82,8 +82,9 @@ def texts_with_results(rewriter, length):
             continue
         if left == 0:
             yield text
-        waiting.extend([(text + letter, targets_of(forth, states, letter))
-                        for letter in rewriter.letters[::-1] if left > 0])
+        else:
+            waiting.extend([(text + letter, targets_of(forth, states, letter))
+                            for letter in rewriter.letters[::-1]])
 
 
 def text_at(rewriter, length, index):

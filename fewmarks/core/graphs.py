@@ -40,9 +40,11 @@ def first_ways(begin, steps):
             row.append(node)
     at = 0
     while at < len(row):
-        for label, after in steps.get(row[at], ()):
+        node = row[at]
+        onward = steps.get(node, ())
+        for label, after in onward:
             if after not in found:
-                found[after] = (row[at], label)
+                found[after] = (node, label)
                 row.append(after)
         at += 1
     return found

@@ -1,6 +1,6 @@
 """Whether a rewriter has one result for each text at most, with papers for both cases."""
 from fewmarks.base.rewriters import check_rewriter
-from fewmarks.base.words import is_delay, is_word, left_over
+from fewmarks.base.words import is_delay, left_over
 from fewmarks.core.doubles import start_pairs
 from fewmarks.core.kinds import is_pair_of, is_tuple_of
 from fewmarks.core.singles import led_by_step, led_to_end, live_steps, paper_of
@@ -54,8 +54,6 @@ def _goes_on(rewriter, steps, delays, pair):
 
 def _are_two(rewriter, text, path, other):
     """Whether these are complete paths that read the text and do not write the same."""
-    if not is_word(text):
-        return False
     for value in (path, other):
         if not is_trail(rewriter, value) or not is_complete(rewriter, value) or text_of(value[1]) != text:
             return False
