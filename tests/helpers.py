@@ -2,6 +2,7 @@
 import random
 
 from fewmarks.base.rewriters import Rewriter
+from fewmarks.machines.marks import Marks
 
 LAST = Rewriter("ab", {0: "", 2: ""}, ((0, "a", "a", 0), (0, "b", "b", 1), (1, "a", "a", 0), (1, "b", "b", 1), (2, "a", "aa", 2), (2, "b", "bb", 3), (3, "a", "aa", 2), (3, "b", "bb", 3)), {0: "", 3: ""})
 ADD = Rewriter("ab", {0: "", 1: ""}, ((0, "a", "a", 0), (0, "b", "b", 0), (0, "a", "b", 1), (1, "b", "a", 1)), {1: ""})
@@ -42,6 +43,9 @@ def any_values():
         ("two", "", (0, ()), (0, ())), ("two",), "single", "two", ["single", {}],
         deep(10), LAST, ADD, SWAP, CHOICE, EMPTY, LAST("ab"), LAST.ends, LAST.edges, (LAST,), [ADD], {0: LAST},
         (number for number in (0, 1)), ("e" * 4000),
+        ("same", (((0,), (0,)), ((1,), (0,)))), ("text", ""), ("text", "a"), ("alike", (), {}), ("apart", ("text", "")),
+        ("", "a", "", (0, ((0, "a", "a", 0),)), (0, ((0, "a", "a", 0),))), {("a", 0): 0}, ((("a", 0),),), ("does", (), {}), ("fails", ""),
+        ("equal", (), {}), ("unlike", ""), Marks("a", {("a", 0): 1, ("a", 1): 1}, (0,)), Marks("ab", {("a", 0): 0, ("b", 0): 0}, (0,)),
     ]
 
 
@@ -138,6 +142,25 @@ def random_singles(seed, many, *, states=5, letters="ab", most=3, gaps=0.15):
     return made
 
 
+def random_marks(seed, many, *, most=6, letters=None):
+    """Marks of which each is that of some rest, with any of them good."""
+    chance = random.Random(seed)
+    made = []
+    while len(made) < many:
+        row = letters or chance.choice(("a", "ab", "bz", "abc", "abcd"))
+        size = chance.randint(1, most)
+        steps = {(letter, mark): chance.randrange(size) for letter in row for mark in range(size)}
+        met = [0]
+        for mark in met:
+            met += sorted({steps[(letter, mark)] for letter in row} - set(met))
+        # Others keep their order, so that marks are often not numbered as met.
+        numbers = {mark: at for at, mark in enumerate(sorted(met))}
+        steps = {(letter, numbers[mark]): numbers[after] for (letter, mark), after in steps.items() if mark in numbers}
+        good = tuple(mark for mark in range(len(met)) if chance.random() < 0.6)
+        made.append(Marks(row, steps, good))
+    return made
+
+
 def ring(many, letter="a"):
     """A rewriter that goes round so many states, and writes at one of them."""
     edges = tuple((at, letter, "x" if at == 0 else "", (at + 1) % many) for at in range(many))
@@ -149,6 +172,16 @@ def two_rings():
     five = tuple((at, "a", "x" if at == 2 else "", (at + 1) % 5) for at in range(5))
     seven = tuple((5 + at, "a", "y" if at == 4 else "", 5 + (at + 1) % 7) for at in range(7))
     return Rewriter("a", {0: "", 5: ""}, five + seven, {0: "", 5: ""})
+
+
+def many_sets(*, more=False):
+    """A rewriter with 256 rest sets: all sets of eight states; with a state more there are 257."""
+    edges = [(at, "a", "", (at + 1) % 8) for at in range(8)]
+    edges += [(0, "b", "", 1), (1, "b", "", 0)] + [(at, "b", "", at) for at in range(2, 8)]
+    edges += [(at, "c", "", at) for at in range(1, 8)]
+    edges += [(at, "d", "", at) for at in range(8)] + [(0, "d", "", 1)]
+    states = {0: "", 8: ""} if more else {0: ""}
+    return Rewriter("abcd", states, tuple(edges), states)
 
 
 class Refusals:

@@ -7,7 +7,7 @@ from fewmarks.errors import InvalidOperation, InvalidRewriter, InvalidText, NotS
 from fewmarks.pairs.single import is_single, is_single_paper
 from fewmarks.rests.rests import first_rest, left, rest_sets, words_ahead
 from helpers import (ADD, CHOICE, DROP, EMPTY, KNOWN, LAST, SWAP, TWICE, Refusals, all_texts, any_values,
-                     is_string_of_letters, is_whole, random_rewriters, random_singles)
+                     is_string_of_letters, is_whole, many_sets, random_rewriters, random_singles)
 
 
 def ways_on(rewriter, state, rest):
@@ -32,16 +32,6 @@ def sets_too(rewriter):
                 rows.append(onward)
                 rests.append(letter + rest)
     return rows, rests
-
-
-def many_sets(*, more=False):
-    """A rewriter with 256 rest sets: all sets of eight states; with a state more there are 257."""
-    edges = [(at, "a", "", (at + 1) % 8) for at in range(8)]
-    edges += [(0, "b", "", 1), (1, "b", "", 0)] + [(at, "b", "", at) for at in range(2, 8)]
-    edges += [(at, "c", "", at) for at in range(1, 8)]
-    edges += [(at, "d", "", at) for at in range(8)] + [(0, "d", "", 1)]
-    states = {0: "", 8: ""} if more else {0: ""}
-    return Rewriter("abcd", states, tuple(edges), states)
 
 
 class TestLeft(Refusals, unittest.TestCase):

@@ -125,7 +125,7 @@ def _numbers_of_texts(rewriter, length):
     numbers = [[1] + [0] * (len(rows) - 1)]
     for _ in range(length):
         row = [0] * len(rows)
-        for (at, _), after in steps.items():
+        for (_, at), after in steps.items():
             row[after] += numbers[-1][at]
         numbers.append(row)
     return [_mask_of(row) for row in rows], numbers

@@ -39,10 +39,7 @@ def common_beginning(*words):
         raise InvalidOperation("no words")
     for word in words:
         _check_word(word)
-    found = words[0]
-    for word in words:
-        found = found[:_shared(found, word)]
-    return found
+    return shared_beginning(words)
 
 
 def delay(word, other):
@@ -101,6 +98,14 @@ def sorted_words(words):
     return tuple(sorted(sorted(set(words)), key=len))
 
 
+def shared_beginning(words):
+    """The longest common beginning of what is known to be words, one or more."""
+    found = words[0]
+    for word in words:
+        found = found[:_shared(found, word)]
+    return found
+
+
 def left_over(word, other):
     """The delay of what is known to be words."""
     many = _shared(word, other)
@@ -115,6 +120,9 @@ def check_length(length):
 
 def _shared(word, other):
     """How many letters both words begin with together."""
+    most = min(len(word), len(other))
+    if word[:most] == other[:most]:
+        return most
     many = 0
     for letter, against in zip(word, other):
         if letter != against:

@@ -50,6 +50,15 @@ def first_ways(begin, steps):
     return found
 
 
+def all_leads(steps):
+    """A dict from all nodes to dicts of the nodes to which they lead, themselves included.
+
+    `steps` is a dict as above in which all nodes stand.
+    """
+    onward = {node: sorted({after for _, after in steps[node]}) for node in steps}
+    return {node: _led_to(onward, node) for node in steps}
+
+
 def way_to(found, node):
     """The node at which the first way to a node begins, and the tuple of its labels."""
     labels = []
@@ -57,3 +66,16 @@ def way_to(found, node):
         node, label = found[node]
         labels.append(label)
     return node, tuple(labels[::-1])
+
+
+def _led_to(onward, begin):
+    """A dict of the nodes to which one leads, itself included."""
+    found = {begin: True}
+    waiting = [begin]
+    while waiting:
+        node = waiting.pop()
+        for after in onward[node]:
+            if after not in found:
+                found[after] = True
+                waiting.append(after)
+    return found

@@ -1,6 +1,14 @@
 """Running a rewriter over texts."""
 
 
+def edges_by_state(rewriter):
+    """A dict from states to the tuples of the edges that leave them."""
+    found = {}
+    for edge in rewriter.edges:
+        found[edge[0]] = found.get(edge[0], ()) + (edge,)
+    return found
+
+
 def edges_by_start(rewriter):
     """A dict from pairs (state, letter) to the tuples of the edges that leave there."""
     found = {}
@@ -69,6 +77,23 @@ def some_results(rewriter, text, limit):
     return None if len(found) > limit else list(found)
 
 
+def one_result(rewriter, text):
+    """What some complete path writes that reads a text of any length and any letters, or None."""
+    forth = edges_by_start(rewriter)
+    lefts = lefts_along(rewriter, text)
+    starts = rewriter.starts
+    begins = [state for state in starts if state in lefts[0]]
+    if not begins:
+        return None
+    state = begins[0]
+    words = [starts[state]]
+    for at, letter in enumerate(text):
+        onward = [edge for edge in forth[(state, letter)] if edge[3] in lefts[at + 1]]
+        words.append(onward[0][2])
+        state = onward[0][3]
+    return "".join(words) + rewriter.ends[state]
+
+
 def _written_on(forth, written, letter, lefts):
     """What is written at each of the states `lefts` behind one letter more."""
     found = {}
@@ -84,7 +109,7 @@ def _written_on(forth, written, letter, lefts):
 def sets_met(rewriter, limit):
     """The rest sets in the order in which they are met, and the steps between them.
 
-    The steps are a dict from pairs (index, letter) to indices. As soon as there are
+    The steps are a dict from pairs (letter, index) to indices. As soon as there are
     more sets than the limit, no further ones are looked for.
     """
     back = edges_by_end(rewriter)
@@ -98,6 +123,6 @@ def sets_met(rewriter, limit):
             if row not in places:
                 places[row] = len(rows)
                 rows.append(row)
-            steps[(at, letter)] = places[row]
+            steps[(letter, at)] = places[row]
         at += 1
     return rows, steps

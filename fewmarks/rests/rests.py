@@ -1,6 +1,7 @@
 """Rests, the states from which they lead to ends, and the words that they write."""
 from fewmarks.base.rewriters import check_rewriter
 from fewmarks.core.checks import check_states, check_text
+from fewmarks.core.places import first_texts
 from fewmarks.core.runs import edges_by_end, lefts_along, sets_met
 from fewmarks.core.singles import check_single
 from fewmarks.errors import TooMany
@@ -41,7 +42,7 @@ def first_rest(rewriter, states):
     rows, steps = checked_sets(rewriter)
     if states not in rows:
         return None
-    return _first_rests(steps)[rows.index(states)]
+    return first_texts(steps)[rows.index(states)]
 
 
 def checked_sets(rewriter):
@@ -50,22 +51,3 @@ def checked_sets(rewriter):
     if len(rows) > _MAX_SETS:
         raise TooMany(_MAX_SETS)
     return rows, steps
-
-
-def _first_rests(steps):
-    """A dict from the indices of all rest sets to the first rests.
-
-    A first rest goes on, behind its first letter, as a first rest that is shorter by one.
-    """
-    found = {0: ""}
-    last = [0]
-    while last:
-        rests = {}
-        for (at, letter), after in steps.items():
-            if at in last and after not in found:
-                rest = letter + found[at]
-                rests[after] = min(rest, rests.get(after, rest))
-        for after in rests:
-            found[after] = rests[after]
-        last = list(rests)
-    return found
