@@ -144,6 +144,8 @@ class TestIsPaper(Refusals, unittest.TestCase):
             # Neither rest has a result behind a letter that is none of the rewriter.
             self.assertIs(is_domain_paper(one, "", "a", ("text", text)), text in ("", "a"))
         self.assertTrue(is_domain_paper(row_of(3), "", "a", ("text", "aaa")))
+        for kind in ("same", "apart", "", None, 0, True, (), "Text"):
+            self.assertFalse(is_domain_paper(row_of(3), "", "a", (kind, "aaa")))
         rings = Rewriter("a", {0: ""}, tuple((at, "a", "", (at + 1) % 5) for at in range(5)), {0: ""})
         for text in ("a" * 65, "a" * 1000, "a" * 64, "a" * 999):
             self.assertTrue(is_domain_paper(rings, "", "a", ("text", text)))

@@ -235,6 +235,8 @@ class TestIsPaper(Refusals, unittest.TestCase):
                       ("equal", pairs, {(0, 0): ["", ""], (1, 1): ("", "")}), ("equal", pairs, {(0, 0): ("", ""), (1, 1): ("", ""), (1, 1, 1): ("", "")}),
                       ("equal", pairs, list(delays)), ("equal", pairs, {(0, 0): ("", ""), (1, 1): ("a", "a")}), ("equal", pairs + (((5,), (5,)),), delays)):
             self.assertFalse(is_equality_paper(ADD, ADD, wrong), wrong)
+        for kind in ("equal", "fails", "text", "", None, 0, True, ()):
+            self.assertFalse(is_equality_paper(LAST, PLAIN, (kind, "b")))
         for value in any_values():
             for paper in (value, ("unlike", value), ("equal", value, delays), ("equal", pairs, value), ("equal", (value,), delays)):
                 self.assertIs(is_equality_paper(ADD, ADD, paper), False)
@@ -249,6 +251,7 @@ class TestRefusals(Refusals, unittest.TestCase):
             for value in any_values():
                 if not isinstance(value, Rewriter):
                     self.refused(InvalidRewriter, call, value, None, *last)
+                    self.refused(InvalidRewriter, call, value, ADD, *last)
                     self.refused(InvalidRewriter, call, TWICE, value, *last)
             self.refused(InvalidOperation, call, ADD, DROP, *last)
             self.refused(InvalidOperation, call, CHOICE, TWICE, *last)

@@ -14,6 +14,9 @@ EXAMPLE = ("", "a", "", (0, ((0, "a", "a", 0),)), (2, ((2, "a", "aa", 2),)))
 # The delays at (1, 2) are ("x", "") and ("y", ""), and "b" is written behind them round and round.
 UNLIKE = Rewriter("abc", {0: ""}, ((0, "a", "b", 1), (0, "b", "c", 1), (0, "a", "", 2), (0, "b", "", 2),
                                    (1, "c", "b", 1), (2, "c", "b", 2)), {1: "", 2: ""})
+# The same, but here the delay that the circle keeps is the one that is met later.
+LATER = Rewriter("abc", {0: ""}, ((0, "a", "c", 1), (0, "b", "b", 1), (0, "a", "", 2), (0, "b", "", 2),
+                                  (1, "c", "b", 1), (2, "c", "b", 2)), {1: "", 2: ""})
 # Both words are not "" where both paths go round.
 CLASH = Rewriter("ab", {0: "", 1: ""}, ((0, "a", "x", 2), (1, "a", "y", 3), (2, "b", "z", 2), (3, "b", "z", 3)), {2: "", 3: ""})
 # What both write is as long, but "a" and then "ab" is not "ab" and then "a".
@@ -76,7 +79,7 @@ class TestWild(Refusals, unittest.TestCase):
     def test_against_delays_that_are_followed(self):
         wild = single = many = 0
         for rewriter in (random_rewriters(80, 150, states=3, edges=7) + random_rewriters(81, 60, states=4, edges=8, most=1)
-                         + random_singles(82, 60, states=4, most=2) + list(KNOWN) + [UNLIKE, CLASH, TURNED, KEPT, BEHIND]):
+                         + random_singles(82, 60, states=4, most=2) + list(KNOWN) + [UNLIKE, LATER, CLASH, TURNED, KEPT, BEHIND]):
             pairs = self.check(rewriter)
             wild += bool(pairs)
             single += bool(pairs) and is_single(rewriter)
@@ -100,7 +103,8 @@ class TestWild(Refusals, unittest.TestCase):
         self.assertEqual(wild_pairs(CLASH), ((2, 3), (3, 2)))
         self.assertEqual(wild_pairs(TURNED), ((0, 1), (1, 0)))
         self.assertEqual(wild_pairs(KEPT), ())
-        self.assertEqual(fork(UNLIKE, (1,), (2,))[0], "b")
+        self.assertEqual([fork(UNLIKE, (1,), (2,))[0], fork(LATER, (1,), (2,))[0]], ["b", "a"])
+        self.assertEqual(wild_pairs(LATER), wild_pairs(UNLIKE))
         self.assertEqual(wild_pairs(two_rings())[0], (0, 5))
         self.assertEqual(wild_pairs(EMPTY), ())
         self.assertEqual(wild_pairs(SAME), ())

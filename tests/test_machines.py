@@ -287,6 +287,8 @@ class TestTwoPass(Refusals, unittest.TestCase):
 
     def test_no_good_marks(self):
         none = TwoPass(Marks("ab", LEAST.steps, ()), begins={}, steps={}, ends={})
+        for marks in (counter(2, "ab", ()), counter(2, "bc", ()), counter(1, "ab", ())):
+            self.assertFalse(none == TwoPass(marks, begins={}, steps={}, ends={}))
         self.assertEqual([len(none), bool(none), none.states, none("ab"), list(none.walk("")), str(none), none.rewriter().states, none.numbered() == none],
                          [0, False, (), None, [], "two passes with 2 marks and 0 states", (), True])
 
@@ -393,10 +395,16 @@ class TestRefined(Refusals, unittest.TestCase):
         for value in any_values():
             if not isinstance(value, TwoPass):
                 self.refused(InvalidMachine, refined, value, None)
+                self.refused(InvalidMachine, refined, value, LEAST)
             if not isinstance(value, Marks):
                 self.refused(InvalidMachine, refined, ADDER, value)
         self.refused(InvalidOperation, refined, ADDER, counter(2, "a", (0, 1)))
         self.refused(InvalidOperation, refined, ADDER, counter(2, "ab", (0, 1)))
+        for letters in ("a", "abc", "ac"):
+            # Unlike letters, though all else fits.
+            steps = {(letter, mark): 1 if letter == "a" else mark for letter in letters for mark in (0, 1)}
+            self.refused(InvalidOperation, refined, ADDER, Marks(letters, steps, (0, 1)))
+        self.assertEqual(refined(ADDER, Marks("ab", {("a", 0): 1, ("a", 1): 1, ("b", 0): 0, ("b", 1): 1}, (0, 1))), ADDER)
         self.refused(InvalidOperation, refined, ADDER, least_marks(SWAP))
         for good in ((), (0,), (1,)):
             self.refused(InvalidOperation, refined, ADDER, Marks("ab", LEAST.steps, good))
@@ -537,6 +545,8 @@ class TestPapers(Refusals, unittest.TestCase):
         for wrong in (["does", pairs, table], ("does", pairs), ("does", pairs, table, ()), ("fails", pairs, table), ("single", table), ("fails", ""),
                       ("fails", "ab"), ("fails", "c"), ("fails", "a" * 100), ("fails",), ("fails", None), ("fails", ["a"]), "fails"):
             self.assertFalse(is_machine_paper(ADDER, ADD, wrong), wrong)
+        for kind in ("does", "unlike", "text", "", None, 0, True, ()):
+            self.assertFalse(is_machine_paper(ADDER, SWAP, (kind, "a")))
         for text, wanted in (("a", True), ("b", True), ("", False), ("ab", False), ("a" * 101, True), ("abc", False), ("c", False), ("a" * 61 + "A", False)):
             self.assertIs(is_machine_paper(ADDER, SWAP, ("fails", text)), wanted, text)
         for value in any_values():
@@ -592,6 +602,7 @@ class TestRefusals(Refusals, unittest.TestCase):
             for value in any_values():
                 if not isinstance(value, TwoPass):
                     self.refused(InvalidMachine, call, value, None, *last)
+                    self.refused(InvalidMachine, call, value, ADD, *last)
                 if not isinstance(value, Rewriter):
                     self.refused(InvalidRewriter, call, ADDER, value, *last)
             self.refused(InvalidMachine, call, LEAST, ADD, *last)

@@ -12,7 +12,7 @@ from helpers import (ADD, CHOICE, DROP, EMPTY, LAST, SWAP, TURNS, TWICE, Refusal
 from second_ways import (are_alike_too, is_paths_fork, led_to_too, left_by_runs, left_over_too, loud_too, reached_steps_too,
                          result_too, wild_too)
 from test_domains import is_right, row_of
-from test_forks import EXAMPLE
+from test_forks import EXAMPLE, KEPT
 
 
 def keys_too(rewriter, rest, other):
@@ -80,7 +80,7 @@ class TestPapers(Refusals, unittest.TestCase):
 
     def test_all_pairs_of_short_rests(self):
         kinds = []
-        for rewriter in some_singles(90) + [LAST, ADD, SWAP, DROP, TURNS, EMPTY]:
+        for rewriter in some_singles(90) + [LAST, ADD, SWAP, DROP, TURNS, EMPTY, KEPT]:
             wild = wild_too(rewriter)
             rests = all_texts(rewriter.letters, 3)[:8]
             told = {(rest, other): self.check(rewriter, wild, rest, other) for rest in rests for other in rests}
@@ -117,6 +117,13 @@ class TestPapers(Refusals, unittest.TestCase):
                 if paper[0] == "alike":
                     for delays in paper[2].values():
                         self.assertEqual(len({len(x) - len(y) for x, y in delays}), len(delays))
+
+    def test_words_of_starts_are_in_tables(self):
+        pairs, table = rest_paper(KEPT, "", "a")[1:]
+        self.assertEqual(table, {(0, 0): (("", ""),), (0, 1): (("a", ""),), (1, 0): (("", "a"),), (1, 1): (("", ""),)})
+        self.assertTrue(is_rest_paper(KEPT, "", "a", ("alike", pairs, table)))
+        for pair in ((0, 1), (1, 0)):
+            self.assertFalse(is_rest_paper(KEPT, "", "a", ("alike", pairs, {**table, pair: (("", ""),)})))
 
     def test_tables_of_a_rewriter_that_writes_nothing(self):
         for rewriter in (LAST.silent(), ADD.silent(), SWAP.silent()):

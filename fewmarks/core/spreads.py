@@ -50,12 +50,13 @@ def beginnings_ahead(rewriter, marks):
     row = list(found)
     at = 0
     while at < len(row):
-        state, mark = row[at]
-        before[row[at]] = [((edge[0], steps[(letter, mark)]), edge[2])
-                           for letter in rewriter.letters for edge in back.get((letter, state), ())]
-        for node, word in before[row[at]]:
+        now = row[at]
+        state, mark = now
+        before[now] = [((edge[0], steps[(letter, mark)]), edge[2])
+                       for letter in rewriter.letters for edge in back.get((letter, state), ())]
+        for node, word in before[now]:
             if node not in found:
-                found[node] = word + found[row[at]]
+                found[node] = word + found[now]
                 row.append(node)
         at += 1
     return _shortened(found, before)
@@ -71,8 +72,9 @@ def _shortened(words, before):
     row = list(words)
     at = 0
     while at < len(row):
-        known = found[row[at]]
-        for node, word in before[row[at]]:
+        now = row[at]
+        known = found[now]
+        for node, word in before[now]:
             over, _ = left_over(found[node], word + known)
             if over != "":
                 found[node] = found[node][:len(found[node]) - len(over)]

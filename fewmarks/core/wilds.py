@@ -24,7 +24,7 @@ def lassos(rewriter, steps):
     # Behind an uneven ring there is no end to the delays, and each loud pair is wild.
     behind = [pair for pair in steps if any([pair in leads[root] for root in made])]
     roots = [part[0] for part in parts if part[0] not in behind]
-    within = [pair for pair in steps if pair not in behind and any([root in leads[pair] for root in roots])]
+    within = [pair for pair in steps if any([root in leads[pair] for root in roots])]
     _, clashes = _delays_along(rewriter, steps, within)
     for root in roots:
         for pair in clashes:
@@ -85,9 +85,9 @@ def _delays_along(rewriter, steps, within):
     """One delay of each pair for each number of letters that one word is ahead.
 
     Delays are followed along steps between some pairs, which all lead to loud ones. The
-    second result is a dict from pairs to ways (pair of starts, row of steps) whose delays
-    no circle that writes something can keep: one where both words are not "", or two for
-    one number of letters. Behind such a pair no delays are followed.
+    second result is a dict from the pairs with two delays for one number of letters to
+    two such ways (pair of starts, row of steps). No circle behind them that writes
+    something keeps both, so delays need not be followed any more.
     """
     starts = rewriter.starts
     inside = {pair: True for pair in within}
@@ -102,9 +102,7 @@ def _delays_along(rewriter, steps, within):
         if pair in clashes or delays.get(node) == delay:
             continue
         if node in delays:
-            clashes[pair] = [_way_of(found, way, pair), _way_of(found, found[node], pair)]
-        elif delay[0] and delay[1]:
-            clashes[pair] = [_way_of(found, way, pair)]
+            clashes[pair] = (_way_of(found, found[node], pair), _way_of(found, way, pair))
         else:
             found[node] = way
             delays[node] = delay
@@ -124,14 +122,15 @@ def _way_of(found, way, pair):
 
 
 def _lasso_behind(rewriter, steps, ways, root):
-    """A lasso at a loud pair to which the pair leads where these ways clash."""
+    """A lasso at a loud pair, behind one of two ways to a pair that leads to it."""
     ring = circle_from(steps, root)
-    for begin, before in ways:
-        _, onward = way_to(first_ways([_pair_behind(begin, before)], steps), root)
-        lasso = (begin, before + onward, ring)
-        if _delay_behind(rewriter, begin, before + onward) != _delay_behind(rewriter, begin, before + onward + ring):
-            return lasso
-    return None
+    made = []
+    for begin, labels in ways:
+        _, onward = way_to(first_ways([_pair_behind(begin, labels)], steps), root)
+        before = labels + onward
+        if _delay_behind(rewriter, begin, before) != _delay_behind(rewriter, begin, before + ring):
+            made.append((begin, before, ring))
+    return made[0]
 
 
 def _pair_behind(begin, labels):

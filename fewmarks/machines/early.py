@@ -84,7 +84,10 @@ def _behind_text(spreads, marks, text, rest):
 
 
 def _all_spreads(spreads, marks):
-    """Begins and steps of a writer whose states are the pairs of a mark and a spread, and which writes late."""
+    """Begins, steps and states of a writer whose states are the pairs of a mark and a spread.
+
+    It writes what all paths have written, which can be less than what is known.
+    """
     begins = {}
     for mark in marks.good:
         word, found = spreads.at_begin(mark)

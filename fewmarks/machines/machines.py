@@ -3,7 +3,7 @@ from fewmarks.base.rewriters import check_rewriter, made
 from fewmarks.base.words import is_word
 from fewmarks.core.checks import check_text
 from fewmarks.core.joins import numbered_parts
-from fewmarks.core.kinds import is_below, is_integer, is_letter_of, is_tuple_of
+from fewmarks.core.kinds import is_below, is_integer, is_tuple_of
 from fewmarks.core.places import MarkPlaces, SetPlaces, are_pairs, pairs_or_text
 from fewmarks.core.runs import one_result
 from fewmarks.core.singles import are_delays, check_single, paper_between
@@ -20,7 +20,7 @@ class TwoPass:
 
     def __init__(self, marks, *, begins, steps, ends):
         check_marks(marks)
-        if not _are_begins(marks, begins) or not _are_steps(marks, steps) or not _are_ends(ends):
+        if not _are_begins(marks, begins) or not _are_steps(steps) or not _are_ends(ends):
             raise InvalidMachine("not begins, steps and ends of a writer")
         marked = _marks_of_states(marks, begins, steps)
         if not _is_whole(marks, marked, steps, ends):
@@ -270,12 +270,12 @@ def _are_begins(marks, value):
     return sorted(list(value)) == list(marks.good) and all([_is_step(step) for step in value.values()])
 
 
-def _are_steps(marks, value):
-    """Whether this is a dict from triples (state, letter, mark) to pairs of a word and a state."""
+def _are_steps(value):
+    """Whether this is a dict from triples (state, .., integer) to pairs of a word and a state."""
     if not isinstance(value, dict):
         return False
-    return all([is_tuple_of(triple, 3) and _is_state(triple[0]) and is_letter_of(marks.letters, triple[1])
-                and is_below(triple[2], len(marks)) and _is_step(step) for triple, step in value.items()])
+    return all([is_tuple_of(triple, 3) and _is_state(triple[0]) and is_integer(triple[2])
+                and _is_step(step) for triple, step in value.items()])
 
 
 def _are_ends(value):

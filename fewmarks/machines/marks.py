@@ -5,7 +5,7 @@ from fewmarks.core.checks import check_text
 from fewmarks.core.classes import same_classes
 from fewmarks.core.doubles import reached_steps
 from fewmarks.core.graphs import nodes_from
-from fewmarks.core.kinds import is_below, is_integer, is_letter_of, is_row_of, is_tuple_of
+from fewmarks.core.kinds import is_below, is_letter_of, is_row_of, is_tuple_of
 from fewmarks.core.places import first_texts
 from fewmarks.core.runs import lefts_along
 from fewmarks.core.singles import check_single
@@ -33,7 +33,7 @@ class Marks:
         self._letters = letters
         self._steps = {pair: steps[pair] for pair in sorted(list(steps))}
         self._good = good
-        self._sources = _sources(self._steps)
+        self._into = _pairs_into(self._steps)
 
     @property
     def letters(self):
@@ -75,7 +75,7 @@ class Marks:
     def __getitem__(self, mark):
         if not is_below(mark, len(self._numbers)):
             raise InvalidNumber(mark)
-        return self._sources[mark]
+        return self._into[mark]
 
     def __iter__(self):
         return iter(self._numbers)
@@ -183,20 +183,17 @@ def _without_forks(rewriter, rows, domains):
 
 def _are_steps(letters, value):
     """Whether this is a dict from all pairs of these letters and of marks to marks."""
-    if not isinstance(value, dict) or not all([_is_source(letters, pair) for pair in value]):
+    if not isinstance(value, dict):
+        return False
+    if not all([is_tuple_of(pair, 2) and is_letter_of(letters, pair[0]) for pair in value]):
         return False
     many = len(value) // len(letters)
-    if not 1 <= many <= MAX_MARKS or len(value) != many * len(letters):
-        return False
-    return all([is_below(pair[1], many) and is_below(mark, many) for pair, mark in value.items()])
+    # There are no more pairs with a mark below `many` than `many` marks and these letters make.
+    marks = [pair[1] for pair in value] + list(value.values())
+    return 1 <= many <= MAX_MARKS and all([is_below(mark, many) for mark in marks])
 
 
-def _is_source(letters, value):
-    """Whether this is a pair of one of the letters and of an integer."""
-    return is_tuple_of(value, 2) and is_letter_of(letters, value[0]) and is_integer(value[1])
-
-
-def _sources(steps):
+def _pairs_into(steps):
     """A dict from marks to the ascending tuples of the pairs that lead to them."""
     rows = {mark: [] for _, mark in steps}
     for pair, mark in steps.items():
