@@ -31,6 +31,7 @@ class TwoPass:
         self._steps = {triple: steps[triple] for triple in sorted(list(steps))}
         self._ends = {state: ends[state] for state in sorted(list(ends))}
         self._marked = marked
+        self._ahead = marks.steps
         self._states = tuple(sorted(list(marked)))
         self._many = len(marks)
 
@@ -66,13 +67,13 @@ class TwoPass:
 
     def __call__(self, text):
         """The result of a text, or None."""
-        check_text(self, text)
-        return result_by(self, text)
+        words = [word for word, _ in self.walk(text)]
+        return "".join(words) if words else None
 
     def walk(self, text):
         """A generator of what is written for a text: (word, state), at last (word, None)."""
         check_text(self, text)
-        row = marks_along(self._marks.steps, text)
+        row = marks_along(self._ahead, text)
         if row[0] in self._begins:
             word, state = self._begins[row[0]]
             yield (word, state)
