@@ -25,7 +25,7 @@ def lassos(rewriter, steps):
     behind = [pair for pair in steps if any([pair in leads[root] for root in made])]
     roots = [part[0] for part in parts if part[0] not in behind]
     within = [pair for pair in steps if any([root in leads[pair] for root in roots])]
-    _, clashes = _delays_along(rewriter, steps, within)
+    _, clashes = _followed_delays(rewriter, steps, within)
     for root in roots:
         for pair in clashes:
             if root in leads[pair] and root not in made:
@@ -43,7 +43,7 @@ def closed_delays(rewriter, steps, within):
 
     There must be no fork at a loud pair to which one of these pairs leads.
     """
-    delays, _ = _delays_along(rewriter, steps, within)
+    delays, _ = _followed_delays(rewriter, steps, within)
     rows = {pair: [] for pair in within}
     for (pair, _), delay in delays.items():
         rows[pair].append(delay)
@@ -81,7 +81,7 @@ def _uneven_ring(steps, part):
     return None
 
 
-def _delays_along(rewriter, steps, within):
+def _followed_delays(rewriter, steps, within):
     """One delay of each pair for each number of letters that one word is ahead.
 
     Delays are followed along steps between some pairs, which all lead to loud ones. The
@@ -93,7 +93,9 @@ def _delays_along(rewriter, steps, within):
     inside = {pair: True for pair in within}
     waiting = [(None, pair, left_over(starts[pair[0]], starts[pair[1]]))
                for pair in start_pairs(rewriter, rewriter) if pair in inside]
-    found, delays, clashes = {}, {}, {}
+    found = {}
+    delays = {}
+    clashes = {}
     at = 0
     while at < len(waiting):
         way, pair, delay = waiting[at]

@@ -199,14 +199,13 @@ def built(marks, begins, steps, ends):
     for triple in sorted(list(steps)):
         onward.setdefault(triple[0], []).append(steps[triple][1])
     row = list(numbers)
-    while row:
-        later = []
-        for state in row:
-            for after in onward.get(state, ()):
-                if after not in numbers:
-                    numbers[after] = len(numbers)
-                    later.append(after)
-        row = later
+    at = 0
+    while at < len(row):
+        for after in onward.get(row[at], ()):
+            if after not in numbers:
+                numbers[after] = len(numbers)
+                row.append(after)
+        at += 1
     return TwoPass(marks, begins={mark: (word, numbers[state]) for mark, (word, state) in begins.items()},
                    steps={(numbers[state], letter, mark): (word, numbers[after])
                           for (state, letter, mark), (word, after) in steps.items()},
