@@ -3,6 +3,7 @@ import random
 
 from fewmarks.base.rewriters import Rewriter
 from fewmarks.machines.marks import Marks
+from fewmarks.passes.onepass import OnePass
 
 LAST = Rewriter("ab", {0: "", 2: ""}, ((0, "a", "a", 0), (0, "b", "b", 1), (1, "a", "a", 0), (1, "b", "b", 1), (2, "a", "aa", 2), (2, "b", "bb", 3), (3, "a", "aa", 2), (3, "b", "bb", 3)), {0: "", 3: ""})
 ADD = Rewriter("ab", {0: "", 1: ""}, ((0, "a", "a", 0), (0, "b", "b", 0), (0, "a", "b", 1), (1, "b", "a", 1)), {1: ""})
@@ -45,6 +46,8 @@ def any_values():
         (number for number in (0, 1)), ("e" * 4000),
         ("same", (((0,), (0,)), ((1,), (0,)))), ("text", ""), ("text", "a"), ("alike", (), {}), ("apart", ("text", "")),
         ("", "a", "", (0, ((0, "a", "a", 0),)), (0, ((0, "a", "a", 0),))), {("a", 0): 0}, ((("a", 0),),), ("does", (), {}), ("fails", ""),
+        ("once", {}), ("once", {(0, 0): (("", ""),)}), ("fork", ()), ("alike", (), ()), ("ahead", 0, "", "a"), ("never", "a", "", "b"), ((), True), ((("a", "one"),), False),
+        ((("ab", "any"),) * 3, True), OnePass("a", begin=None, steps={}, ends={}), OnePass("ab", begin=("x", 0), steps={(0, "a"): ("", 0)}, ends={0: ""}),
         ("equal", (), {}), ("unlike", ""), Marks("a", {("a", 0): 1, ("a", 1): 1}, (0,)), Marks("ab", {("a", 0): 0, ("b", 0): 0}, (0,)),
     ]
 

@@ -13,14 +13,15 @@ BUILTINS = {"len", "range", "enumerate", "zip", "min", "max", "sum", "abs", "sor
             "OverflowError", "RuntimeError", "NotImplementedError", "NotImplemented", "property", "classmethod", "staticmethod"}
 METHODS = set("""append clear copy count endswith extend find get index insert isalnum isalpha isdigit islower isspace
 isupper items join keys ljust lower lstrip partition pop remove replace reverse rfind rjust rpartition rsplit rstrip
-setdefault split splitlines startswith strip update upper values zfill bit_length""".split())
+setdefault split splitlines startswith strip update upper values zfill bit_length isdecimal""".split())
 BARRED = {"register", "mro", "elements", "open", "input", "law", "version_info", "with_traceback", "add_note", "compile",
           "copyright", "credits", "delattr", "dir", "eval", "exec", "exit", "gc", "getattr", "globals", "hasattr", "help",
           "id", "importlib", "license", "locals", "os", "quit", "setattr", "type", "vars", "hash", "map", "round", "filter",
           "object", "format", "print", "float", "complex", "callable", "slice", "pow", "hex", "bin", "oct", "iter", "next"}
 BARRED_WORDS = (r"\b(type|typing|enum|Enum|IntEnum|Flag|Generic|Protocol|ABC|namedtuple|NamedTuple|TypedDict)\b"
                 r"|dataclass|overload|contextmanager|metaclass=|Meta|\(type\)|_wall|_WallAttr")
-UNUSED = (ast.Global, ast.AsyncFunctionDef, ast.Await, ast.AnnAssign, ast.Import, ast.Try, ast.Lambda, ast.GeneratorExp, ast.Match)
+UNUSED = (ast.Global, ast.AsyncFunctionDef, ast.Await, ast.AnnAssign, ast.Import, ast.Lambda, ast.GeneratorExp, ast.Match)
+GENERATORS = ("for", "list", "tuple", "dict", "sorted", "sum", "min", "max", "any", "all", "enumerate", "zip")
 
 
 def files():
@@ -78,6 +79,78 @@ class TestLanguage(unittest.TestCase):
             for node in tree.body:
                 docstring = isinstance(node, ast.Expr) and isinstance(node.value, ast.Constant)
                 self.assertTrue(docstring or isinstance(node, (ast.ImportFrom, ast.FunctionDef, ast.ClassDef, ast.Assign)), path)
+
+    def test_errors_that_are_caught_are_own_ones(self):
+        """A try has one row, an assignment or a return of a call, and handlers of one own error each that raise another one."""
+        with open(os.path.join(PACKAGE, "errors.py"), encoding="utf-8") as source:
+            own = {node.name for node in ast.parse(source.read()).body if isinstance(node, ast.ClassDef)}
+        for path, tree in self.trees.items():
+            for node in ast.walk(tree):
+                if isinstance(node, ast.Try):
+                    self.assertEqual((len(node.body), node.orelse, node.finalbody), (1, [], []), path)
+                    self.assertIsInstance(node.body[0], (ast.Assign, ast.Return), path)
+                    self.assertIsInstance(node.body[0].value, ast.Call, path)
+                    self.assertTrue(node.handlers, path)
+                    for handler in node.handlers:
+                        self.assertIn(getattr(handler.type, "id", None), own, path)
+                        self.assertIsInstance(handler.body[0], ast.Raise, path)
+
+    def test_ends_of_blocks(self):
+        """The rows of `__exit__` put attributes back."""
+        for path, tree in self.trees.items():
+            for node in ast.walk(tree):
+                if isinstance(node, ast.FunctionDef) and node.name == "__exit__":
+                    self.assertEqual(len(node.args.args), 4)
+                    for row in node.body:
+                        self.assertIsInstance(row, ast.Assign, path)
+                        for part in row.targets + [row.value]:
+                            self.assertIsInstance(part, ast.Attribute, path)
+                if isinstance(node, ast.With):
+                    self.assertEqual(len(node.items), 1)
+                    self.assertIsInstance(node.items[0].context_expr, ast.Call, path)
+                    self.assertIsInstance(node.items[0].optional_vars, ast.Name, path)
+
+    def test_stars_and_generators(self):
+        """Behind a star stands a name; what a generator gives is walked at once, and what it is handed are names and attributes."""
+        generators = {node.name for tree in self.trees.values() for node in ast.walk(tree) if isinstance(node, ast.FunctionDef)
+                      and any(isinstance(part, (ast.Yield, ast.YieldFrom)) for part in ast.walk(node))}
+        self.assertIn("walk", generators)
+        for path, tree in self.trees.items():
+            walked = set()
+            for node in ast.walk(tree):
+                if isinstance(node, ast.Call) and isinstance(node.func, ast.Name) and node.func.id in GENERATORS:
+                    walked |= {id(part) for part in node.args}
+                if isinstance(node, (ast.For, ast.comprehension)):
+                    walked.add(id(node.iter))
+            for node in ast.walk(tree):
+                if isinstance(node, ast.Starred):
+                    self.assertIsInstance(node.value, ast.Name, (path, node.lineno))
+                if isinstance(node, ast.Call):
+                    name = node.func.id if isinstance(node.func, ast.Name) else node.func.attr
+                    if name in generators:
+                        self.assertIn(id(node), walked, (path, node.lineno))
+                        for part in node.args:
+                            self.assertIsInstance(part, (ast.Name, ast.Attribute, ast.Constant), (path, node.lineno))
+
+    def test_classes_are_called_or_asked_for(self):
+        """A class is called, read for a class method, or stands in isinstance, except or raise, or among the bases."""
+        classes = {node.name for tree in self.trees.values() for node in ast.walk(tree) if isinstance(node, ast.ClassDef)}
+        for path, tree in self.trees.items():
+            fine = set()
+            for node in ast.walk(tree):
+                if isinstance(node, ast.Call):
+                    fine.add(id(node.func))
+                    if isinstance(node.func, ast.Attribute):
+                        fine.add(id(node.func.value))
+                    if isinstance(node.func, ast.Name) and node.func.id == "isinstance":
+                        fine.add(id(node.args[1]))
+                if isinstance(node, ast.ExceptHandler):
+                    fine.add(id(node.type))
+                if isinstance(node, ast.ClassDef):
+                    fine |= {id(base) for base in node.bases}
+            for node in ast.walk(tree):
+                if isinstance(node, ast.Name) and node.id in classes:
+                    self.assertIn(id(node), fine, (path, node.lineno))
 
     def test_names(self):
         for path, tree in self.trees.items():

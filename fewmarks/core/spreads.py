@@ -6,7 +6,8 @@ from fewmarks.core.runs import edges_by_end, edges_by_start
 class Spreads:
     """The spreads of a single rewriter and of marks that serve it; each one is a tuple of (state, word).
 
-    Where a pair (word, spread) is returned, the word is what is written before all that stands in the spread.
+    Where a pair (word, spread) is returned, the word is what is written before all that stands in the spread;
+    None stands for it where no state is. One mark for all rests gives wide spreads.
     """
 
     def __init__(self, rewriter, marks):
@@ -33,8 +34,9 @@ class Spreads:
         return shared_beginning([word + self._aheads[(state, mark)] for state, word in spread])
 
     def at_end(self, spread):
-        """What is to be written from the spread if nothing follows."""
-        return [word + self._closing[state] for state, word in spread if state in self._closing][0]
+        """What is to be written from the spread if nothing follows, or None if no state is an end."""
+        words = [word + self._closing[state] for state, word in spread if state in self._closing]
+        return words[0] if words else None
 
 
 def beginnings_ahead(rewriter, marks):
@@ -84,6 +86,8 @@ def _shortened(words, before):
 
 
 def _cut(words):
-    """The longest common beginning of words at states, and the spread beyond it."""
+    """The longest common beginning of words at states, and the spread beyond it; None without a state."""
+    if not words:
+        return None
     common = shared_beginning(list(words.values()))
     return common, tuple([(state, words[state][len(common):]) for state in sorted(list(words))])

@@ -1,10 +1,9 @@
 """Early machines: with their marks, they write as soon as it is known what is to be written."""
 from fewmarks.base.rewriters import check_rewriter
 from fewmarks.core.checks import check_text
-from fewmarks.core.classes import same_classes
 from fewmarks.core.spreads import Spreads
 from fewmarks.errors import InvalidOperation, TooMany
-from fewmarks.machines.machines import MAX_WRITER, built, check_machine, same_good
+from fewmarks.machines.machines import MAX_WRITER, check_machine, fewest, same_good
 from fewmarks.machines.marks import check_marks, classes_of_rests, mapped, marks_along
 
 
@@ -52,7 +51,7 @@ def written(rewriter, text, rest):
     spreads = Spreads(rewriter, least)
     word, (mark, found) = _behind_text(spreads, least, text, rest)
     # Only to refuse what has too many spreads.
-    _all_spreads(spreads, least)
+    all_spreads(spreads, least)
     return word + spreads.sure(mark, found)
 
 
@@ -83,7 +82,7 @@ def _behind_text(spreads, marks, text, rest):
     return "".join(words), (row[len(text)], found)
 
 
-def _all_spreads(spreads, marks):
+def all_spreads(spreads, marks):
     """Begins, steps and states of a writer whose states are the pairs of a mark and a spread.
 
     It writes what all paths have written, which can be less than what is known.
@@ -113,20 +112,9 @@ def _all_spreads(spreads, marks):
 def _early_machine(rewriter, marks):
     """The two-pass machine with the early writer for marks that serve the rewriter."""
     spreads = Spreads(rewriter, marks)
-    begins, steps, nodes = _all_spreads(spreads, marks)
+    begins, steps, nodes = all_spreads(spreads, marks)
     sure = {node: spreads.sure(node[0], node[1]) for node in nodes}
     begins = {mark: (word + sure[node], node) for mark, (word, node) in begins.items()}
     steps = {triple: ((word + sure[after])[len(sure[triple[0]]):], after) for triple, (word, after) in steps.items()}
     ends = {node: spreads.at_end(node[1])[len(sure[node]):] for node in nodes if node[0] == 0}
-    merged = _merged(marks, nodes, steps, ends)
-    return built(marks, {mark: (word, merged[node]) for mark, (word, node) in begins.items()},
-                 {(merged[node], letter, behind): (word, merged[after])
-                  for (node, letter, behind), (word, after) in steps.items()},
-                 {merged[node]: word for node, word in ends.items()})
-
-
-def _merged(marks, nodes, steps, ends):
-    """A dict from the nodes to numbers, equal ones for nodes for one mark that write the same from there on."""
-    onward = {node: [steps[(node, letter, behind)] for letter, behind in marks[node[0]]] for node in nodes}
-    kinds = {node: (node[0], tuple([word for word, _ in onward[node]]), ends.get(node, "")) for node in nodes}
-    return same_classes(kinds, {node: [after for _, after in onward[node]] for node in nodes})
+    return fewest(marks, nodes, begins, steps, ends)

@@ -2,6 +2,7 @@
 from fewmarks.base.rewriters import check_rewriter, made
 from fewmarks.base.words import is_word
 from fewmarks.core.checks import check_text
+from fewmarks.core.classes import same_classes
 from fewmarks.core.joins import numbered_parts
 from fewmarks.core.kinds import is_below, is_integer, is_tuple_of
 from fewmarks.core.places import MarkPlaces, SetPlaces, are_pairs, pairs_or_text
@@ -20,7 +21,7 @@ class TwoPass:
 
     def __init__(self, marks, *, begins, steps, ends):
         check_marks(marks)
-        if not _are_begins(marks, begins) or not _are_steps(steps) or not _are_ends(ends):
+        if not _are_begins(marks, begins) or not _are_steps(steps) or not are_ends(ends):
             raise InvalidMachine("not begins, steps and ends of a writer")
         marked = _marks_of_states(marks, begins, steps)
         if not _is_whole(marks, marked, steps, ends):
@@ -212,6 +213,21 @@ def built(marks, begins, steps, ends):
                    ends={numbers[state]: word for state, word in ends.items()})
 
 
+def fewest(marks, nodes, begins, steps, ends):
+    """The machine of a writer whose nodes are pairs (mark, ..), with the fewest states, numbered as met.
+
+    Nodes for one mark that write the same from there on become one state. `begins`, `steps` and `ends`
+    are those of a machine, with nodes in the place of states.
+    """
+    onward = {node: [steps[(node, letter, behind)] for letter, behind in marks[node[0]]] for node in nodes}
+    kinds = {node: (node[0], tuple([word for word, _ in onward[node]]), ends.get(node, "")) for node in nodes}
+    merged = same_classes(kinds, {node: [after for _, after in onward[node]] for node in nodes})
+    return built(marks, {mark: (word, merged[node]) for mark, (word, node) in begins.items()},
+                 {(merged[node], letter, behind): (word, merged[after])
+                  for (node, letter, behind), (word, after) in steps.items()},
+                 {merged[node]: word for node, word in ends.items()})
+
+
 def _paired(step, mark):
     """A step that leads to a pair of a state and a finer mark."""
     word, state = step
@@ -258,7 +274,7 @@ def _is_state(value):
     return is_below(value, MAX_WRITER)
 
 
-def _is_step(value):
+def is_step(value):
     """Whether this is a pair of a word and a state."""
     return is_tuple_of(value, 2) and is_word(value[0]) and _is_state(value[1])
 
@@ -267,7 +283,7 @@ def _are_begins(marks, value):
     """Whether this is a dict from just the good marks to pairs of a word and a state."""
     if not isinstance(value, dict) or not all([is_integer(mark) for mark in value]):
         return False
-    return sorted(list(value)) == list(marks.good) and all([_is_step(step) for step in value.values()])
+    return sorted(list(value)) == list(marks.good) and all([is_step(step) for step in value.values()])
 
 
 def _are_steps(value):
@@ -275,10 +291,10 @@ def _are_steps(value):
     if not isinstance(value, dict):
         return False
     return all([is_tuple_of(triple, 3) and _is_state(triple[0]) and is_integer(triple[2])
-                and _is_step(step) for triple, step in value.items()])
+                and is_step(step) for triple, step in value.items()])
 
 
-def _are_ends(value):
+def are_ends(value):
     """Whether this is a dict from states to words."""
     if not isinstance(value, dict):
         return False

@@ -153,27 +153,36 @@ def classes_of_rests(rewriter):
     """
     check_single(rewriter)
     rows, steps = checked_sets(rewriter)
+    pairs = reached_steps(rewriter)
+    return classes_apart(rewriter, rows, steps, wild_among(pairs, lassos(rewriter, pairs)))
+
+
+def classes_apart(rewriter, rows, steps, apart):
+    """The fewest marks for rest sets as they are met, of which no two with one of these pairs are one.
+
+    The second result is a dict from the rest sets to the marks. Sets of one mark also have the same texts ahead
+    of them that have a result.
+    """
     letters, starts = rewriter.letters, rewriter.starts
     lets = {at: any([state in starts for state in row]) for at, row in enumerate(rows)}
     domains = same_classes(lets, {at: [steps[(letter, at)] for letter in letters] for at in lets})
-    found = _without_forks(rewriter, rows, domains)
+    found = _kept_apart(rewriter, rows, domains, apart)
     moves = {(letter, found[at]): found[after] for (letter, at), after in steps.items()}
     good = sorted({found[at] for at in lets if lets[at]})
     return Marks(letters, moves, tuple(good)), {row: found[at] for at, row in enumerate(rows)}
 
 
-def _without_forks(rewriter, rows, domains):
-    """The classes of the rest sets, as a list: one class for equal domains without a fork between them."""
-    steps = reached_steps(rewriter)
+def _kept_apart(rewriter, rows, domains, apart):
+    """The classes of the rest sets, as a list: one class for equal domains without such a pair between them."""
     beside = {state: {} for state in rewriter.states}
-    for state, other in wild_among(steps, lassos(rewriter, steps)):
+    for state, other in apart:
         beside[state][other] = True
     found = []
     firsts = []
     for at, row in enumerate(rows):
-        wild = {other: True for state in row for other in beside[state]}
+        barred = {other: True for state in row for other in beside[state]}
         near = [number for number, first in enumerate(firsts) if domains[first] == domains[at]
-                and not any([state in wild for state in rows[first]])]
+                and not any([state in barred for state in rows[first]])]
         if not near:
             near = [len(firsts)]
             firsts.append(at)

@@ -1,12 +1,13 @@
 """Whether one mark does for two rests, with papers for both cases."""
 from fewmarks.base.rewriters import check_rewriter
-from fewmarks.base.words import check_length, is_delay, left_over
+from fewmarks.base.words import check_length
 from fewmarks.core.checks import check_text
-from fewmarks.core.doubles import loud_among, reached_steps, start_pairs
+from fewmarks.core.doubles import loud_among, reached_steps
 from fewmarks.core.graphs import all_leads
-from fewmarks.core.kinds import is_pair_of, is_tuple_of
+from fewmarks.core.kinds import is_tuple_of
 from fewmarks.core.runs import lefts_along, one_result
-from fewmarks.core.singles import check_single, led_by_step
+from fewmarks.core.singles import check_single
+from fewmarks.core.tables import is_table, pairs_before
 from fewmarks.core.wilds import closed_delays
 from fewmarks.errors import InvalidOperation
 from fewmarks.rests.domains import are_domain_pairs, domain_paper_of, is_parting_text
@@ -38,8 +39,9 @@ def is_rest_paper(rewriter, rest, other, value):
     _check_rests(rewriter, rest, other)
     _check_rewriter_of_rests(rewriter)
     if is_tuple_of(value, 3) and value[0] == "alike":
+        steps = reached_steps(rewriter)
         return (are_domain_pairs(rewriter, rest, other, value[1])
-                and _is_table(rewriter, rest, other, value[2]))
+                and is_table(rewriter, steps, _pairs_of_table(rewriter, steps, rest, other), value[2]))
     return _tells_apart(rewriter, rest, other, value)
 
 
@@ -85,36 +87,4 @@ def _pairs_of_table(rewriter, steps, rest, other):
     leads = all_leads(steps)
     goals = [(state, beside) for state in _left(rewriter, rest) for beside in _left(rewriter, other)]
     loud = [pair for pair in loud_among(steps, leads) if any([goal in leads[pair] for goal in goals])]
-    return [pair for pair in steps if any([after in leads[pair] for after in loud])]
-
-
-def _is_table(rewriter, rest, other, value):
-    """Whether this is a dict from just the pairs of a table to delays that the steps keep."""
-    steps = reached_steps(rewriter)
-    states = rewriter.states
-    if not isinstance(value, dict) or not all([is_pair_of(states, pair) for pair in value]):
-        return False
-    if sorted(list(value)) != _pairs_of_table(rewriter, steps, rest, other):
-        return False
-    return all([_are_delays(row) for row in value.values()]) and _is_closed(rewriter, steps, value)
-
-
-def _are_delays(value):
-    """Whether this is an ascending tuple of delays."""
-    if not isinstance(value, tuple) or not all([is_delay(delay) for delay in value]):
-        return False
-    return list(value) == sorted(set(value))
-
-
-def _is_closed(rewriter, steps, table):
-    """Whether the delays of starts are in the table, and steps lead all of it on to what is in it."""
-    given = {(pair, delay): True for pair in table for delay in table[pair]}
-    starts = rewriter.starts
-    for pair in start_pairs(rewriter, rewriter):
-        if pair in table and (pair, left_over(starts[pair[0]], starts[pair[1]])) not in given:
-            return False
-    for pair in table:
-        inner = [(label, after) for label, after in steps[pair] if after in table]
-        if not all([(after, led_by_step(delay, label)) in given for delay in table[pair] for label, after in inner]):
-            return False
-    return True
+    return pairs_before(steps, loud)

@@ -1,0 +1,1 @@
+"""Patterns, and books of rules."""

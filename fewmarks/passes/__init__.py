@@ -1,0 +1,1 @@
+"""One pass, and writing in place."""
