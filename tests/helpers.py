@@ -2,6 +2,9 @@
 import random
 
 from fewmarks.base.rewriters import Rewriter
+from fewmarks.books.books import Book
+from fewmarks.desk.editor import Editor
+from fewmarks.machines.machines import TwoPass
 from fewmarks.machines.marks import Marks
 from fewmarks.passes.onepass import OnePass
 
@@ -47,7 +50,9 @@ def any_values():
         ("same", (((0,), (0,)), ((1,), (0,)))), ("text", ""), ("text", "a"), ("alike", (), {}), ("apart", ("text", "")),
         ("", "a", "", (0, ((0, "a", "a", 0),)), (0, ((0, "a", "a", 0),))), {("a", 0): 0}, ((("a", 0),),), ("does", (), {}), ("fails", ""),
         ("once", {}), ("once", {(0, 0): (("", ""),)}), ("fork", ()), ("alike", (), ()), ("ahead", 0, "", "a"), ("never", "a", "", "b"), ((), True), ((("a", "one"),), False),
-        ((("ab", "any"),) * 3, True), OnePass("a", begin=None, steps={}, ends={}), OnePass("ab", begin=("x", 0), steps={(0, "a"): ("", 0)}, ends={0: ""}),
+        ((("ab", "any"),) * 3, True), Book("ab"), Book("ab", ("a", ((), False), ((), True), "x")), ("a", ((), False), ((), True), "x"),
+        TwoPass(Marks("a", {("a", 0): 0}, ()), begins={}, steps={}, ends={}), Editor(TwoPass(Marks("a", {("a", 0): 0}, ()), begins={}, steps={}, ends={}), "a"),
+        ("put", 0, "a"), ("cut", 0, 1), ("use", None), (("put", 0, "a"),), "letters ab", "letters ab\ngood -", "names", "undo", OnePass("a", begin=None, steps={}, ends={}), OnePass("ab", begin=("x", 0), steps={(0, "a"): ("", 0)}, ends={0: ""}),
         ("equal", (), {}), ("unlike", ""), Marks("a", {("a", 0): 1, ("a", 1): 1}, (0,)), Marks("ab", {("a", 0): 0, ("b", 0): 0}, (0,)),
     ]
 
