@@ -18,7 +18,7 @@ def matched_along(patterns, text):
     for letter in text:
         row = [next_trace(pattern, trace, letter) for pattern, trace in zip(patterns, row)]
         rows.append(row)
-    return [[is_matched(pattern, trace) for pattern, trace in zip(patterns, row)] for row in rows]
+    return [[is_matched(pattern, trace) for pattern, trace in zip(patterns, traces)] for traces in rows]
 
 
 def traces_met(letters, patterns, limit):

@@ -202,7 +202,8 @@ def built(marks, begins, steps, ends):
     row = list(numbers)
     at = 0
     while at < len(row):
-        for after in onward.get(row[at], ()):
+        state = row[at]
+        for after in onward.get(state, ()):
             if after not in numbers:
                 numbers[after] = len(numbers)
                 row.append(after)

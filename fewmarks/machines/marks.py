@@ -182,7 +182,7 @@ def _kept_apart(rewriter, rows, domains, apart):
     for at, row in enumerate(rows):
         barred = {other: True for state in row for other in beside[state]}
         near = [number for number, first in enumerate(firsts) if domains[first] == domains[at]
-                and not any([state in barred for state in rows[first]])]
+                and not any([against in barred for against in rows[first]])]
         if not near:
             near = [len(firsts)]
             firsts.append(at)
